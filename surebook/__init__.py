@@ -1,0 +1,1 @@
+"""Surebook: offers at a fair, fair or beaten, reckoned in exact ratios."""

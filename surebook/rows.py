@@ -1,0 +1,52 @@
+"""Rows, a ratio for each world, and events, rising tuples of worlds or None for all."""
+
+from surebook.ratios import NOUGHT, ONE, plus, times, under
+
+
+def added(one, other):
+    return tuple([plus(mine, theirs) for mine, theirs in zip(one, other)])
+
+
+def multiplied(row, by):
+    return tuple([times(worth, by) for worth in row])
+
+
+def covers(one, other):
+    return not any([under(mine, theirs) for mine, theirs in zip(one, other)])
+
+
+def total(worths):
+    so_far = NOUGHT
+    for worth in worths:
+        so_far = plus(so_far, worth)
+    return so_far
+
+
+def mean(weights, row):
+    return total([times(weight, worth) for weight, worth in zip(weights, row)])
+
+
+def is_weights(row):
+    # Coming to 1 is not enough: what is below nought in one world may be made up in another.
+    return not any([under(weight, NOUGHT) for weight in row]) and total(row) == ONE
+
+
+def is_in(world, event):
+    return event is None or world in event
+
+
+def cut(row, event):
+    return tuple([worth if is_in(world, event) else NOUGHT for world, worth in enumerate(row)])
+
+
+def paper_of(count, event):
+    return cut((ONE,) * count, event)
+
+
+def meet(one, other):
+    # None is all worlds, so the other event alone decides; None and None stay None.
+    if one is None:
+        return other
+    if other is None:
+        return one
+    return tuple([world for world in one if world in other])

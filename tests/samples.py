@@ -1,0 +1,59 @@
+"""What several test files need: sample ratios and rows, and checks of their form."""
+
+import math
+import random
+from fractions import Fraction
+
+COUNTS = range(2, 13)
+
+
+def is_whole(value):
+    return isinstance(value, int) and not isinstance(value, bool)
+
+
+def is_ratio(value):
+    return (
+        type(value) is tuple
+        and len(value) == 2
+        and is_whole(value[0])
+        and is_whole(value[1])
+        and value[1] >= 1
+        and math.gcd(value[0], value[1]) == 1
+    )
+
+
+def is_row(value, count):
+    return type(value) is tuple and len(value) == count and all(is_ratio(worth) for worth in value)
+
+
+def of(fraction):
+    """The ratio of a Fraction or a whole number."""
+    fraction = Fraction(fraction)
+    return (fraction.numerator, fraction.denominator)
+
+
+def worth_of(one):
+    return Fraction(one[0], one[1])
+
+
+def row_of(*fractions):
+    return tuple(of(fraction) for fraction in fractions)
+
+
+def some_fraction(chance, size=12):
+    return Fraction(chance.randint(-size, size), chance.randint(1, size))
+
+
+def some_row(chance, count):
+    return tuple(of(some_fraction(chance)) for world in range(count))
+
+
+def some_weights(chance, count):
+    loads = [chance.randint(0, 9) for world in range(count)]
+    loads[chance.randrange(count)] += 1
+    return tuple(of(Fraction(load, sum(loads))) for load in loads)
+
+
+def chances():
+    # The seed is fixed: each run asks the same questions.
+    return random.Random(20)
