@@ -56,3 +56,16 @@ def parted(one, other):
 def under(one, other):
     # Both bottoms are above nought, so multiplying by them turns nothing round.
     return one[0] * other[1] < other[0] * one[1]
+
+
+def common_bottom(several):
+    """The least number from 1 on that every bottom of these ratios divides."""
+    least = 1
+    for one in several:
+        least = least * one[1] // common_divisor(least, one[1])
+    return least
+
+
+def whole_by(several, bottom):
+    """The ratios multiplied by a number that all their bottoms divide, as whole numbers."""
+    return [one[0] * (bottom // one[1]) for one in several]

@@ -1,6 +1,6 @@
 """Rows, a ratio for each world, and events, rising tuples of worlds or None for all."""
 
-from surebook.ratios import NOUGHT, ONE, plus, times, under
+from surebook.ratios import NOUGHT, ONE, common_bottom, plus, ratio, times, under, whole_by
 
 
 def added(one, other):
@@ -23,7 +23,11 @@ def total(worths):
 
 
 def mean(weights, row):
-    return total([times(weight, worth) for weight, worth in zip(weights, row)])
+    # Reckoned in whole numbers, so that lowest terms, which take long of long numbers, are sought once alone.
+    mine = common_bottom(weights)
+    theirs = common_bottom(row)
+    products = [one * other for one, other in zip(whole_by(weights, mine), whole_by(row, theirs))]
+    return ratio(sum(products), mine * theirs)
 
 
 def is_weights(row):

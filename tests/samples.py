@@ -36,6 +36,10 @@ def worth_of(one):
     return Fraction(one[0], one[1])
 
 
+def worths(row):
+    return [worth_of(worth) for worth in row]
+
+
 def row_of(*fractions):
     return tuple(of(fraction) for fraction in fractions)
 
@@ -52,6 +56,27 @@ def some_weights(chance, count):
     loads = [chance.randint(0, 9) for world in range(count)]
     loads[chance.randrange(count)] += 1
     return tuple(of(Fraction(load, sum(loads))) for load in loads)
+
+
+def some_event(chance, count):
+    """Some worlds, at least one."""
+    return tuple(sorted(chance.sample(range(count), chance.randint(1, count))))
+
+
+def mean_under(weights, row):
+    return sum(weight * worth for weight, worth in zip(worths(weights), worths(row)))
+
+
+def fitting_gain(chance, weights, row=None, slack=None):
+    """A row moved alike in all worlds until its mean under the weights is nought, or a slack below it."""
+    row = some_row(chance, len(weights)) if row is None else row
+    slack = chance.choice([0, 0, Fraction(1, 7), 3]) if slack is None else slack
+    by = mean_under(weights, row) / sum(worths(weights)) + slack
+    return row_of(*[worth - by for worth in worths(row)])
+
+
+def fitting_gains(chance, weights, many):
+    return [fitting_gain(chance, weights) for turn in range(many)]
 
 
 def chances():

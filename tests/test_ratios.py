@@ -1,10 +1,11 @@
 import copy
+import math
 import unittest
 from fractions import Fraction
 
 import samples
 from surebook.errors import NoRatio
-from surebook.ratios import minus, parted, plus, ratio, times, under
+from surebook.ratios import common_bottom, minus, parted, plus, ratio, times, under, whole_by
 
 LONG = 10 ** 200 + 7
 LONGER = 3 ** 2000 * 10 ** 50
@@ -151,6 +152,21 @@ class Under(unittest.TestCase):
             self.assertIs(under((-more[0], more[1]), (-less[0], less[1])), True)
             self.assertIs(under((0, 1), (1, long)), True)
             self.assertIs(under((-1, long), (0, 1)), True)
+
+
+class CommonBottom(unittest.TestCase):
+    def test_by_hand(self):
+        self.assertEqual(common_bottom([]), 1)
+        self.assertEqual(common_bottom([(3, 1), (0, 1)]), 1)
+        self.assertEqual(common_bottom([(1, 4), (-5, 6), (2, 1)]), 12)
+        self.assertEqual(whole_by([(1, 4), (-5, 6), (2, 1), (0, 1)], 12), [3, -10, 24, 0])
+
+    def test_samples(self):
+        for one, other in pairs():
+            bottom = common_bottom([one, other])
+            self.assertEqual(bottom, math.lcm(one[1], other[1]))
+            for kept, whole in zip((one, other), whole_by([one, other], bottom)):
+                self.assertEqual(whole, samples.worth_of(kept) * bottom)
 
 
 class AskedAgain(unittest.TestCase):

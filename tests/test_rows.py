@@ -4,15 +4,11 @@ import unittest
 from fractions import Fraction
 
 import samples
-from samples import COUNTS, row_of
+from samples import COUNTS, row_of, worths
 from surebook.rows import added, covers, cut, is_weights, mean, meet, multiplied, paper_of
 
 LITTLE = Fraction(1, 10 ** 29 + 1)
 NOUGHT = (0, 1)
-
-
-def worths(row):
-    return [samples.worth_of(worth) for worth in row]
 
 
 def some_rows(count):
