@@ -11,6 +11,10 @@ def multiplied(row, by):
     return tuple([times(worth, by) for worth in row])
 
 
+def turned(row):
+    return multiplied(row, (-1, 1))
+
+
 def covers(one, other):
     return not any([under(mine, theirs) for mine, theirs in zip(one, other)])
 

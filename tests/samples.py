@@ -79,6 +79,45 @@ def fitting_gains(chance, weights, many):
     return [fitting_gain(chance, weights) for turn in range(many)]
 
 
+def some_offer(chance, count):
+    ask = chance.choice([None, of(some_fraction(chance))])
+    bid = chance.choice([None, of(some_fraction(chance))])
+    event = chance.choice([None, (), tuple(range(count)), some_event(chance, count)])
+    return (some_row(chance, count), ask, bid, event)
+
+
+def some_offers(chance, count, many):
+    return [some_offer(chance, count) for turn in range(many)]
+
+
+def fair_offer(chance, weights, spread):
+    """An offer that these weights fit, by nothing to spare where the spread is nought."""
+    count = len(weights)
+    row = some_row(chance, count)
+    event = chance.choice([None, None, some_event(chance, count)])
+    among = range(count) if event is None else event
+    given = sum(worths(weights)[world] for world in among)
+    price = Fraction(0)
+    if given > 0:
+        price = sum(worths(weights)[world] * worths(row)[world] for world in among) / given
+    ask = chance.choice([None, of(price + spread), of(price + spread)])
+    bid = chance.choice([None, of(price - spread), of(price - spread)])
+    return (row, ask, bid, event)
+
+
+def fair_offers(chance, weights, many, spread=None):
+    spreads = [0, Fraction(1, 3), 2] if spread is None else [spread]
+    return [fair_offer(chance, weights, chance.choice(spreads)) for turn in range(many)]
+
+
+def beaten_offers(chance, count, many):
+    """Offers, and behind them one that bids more than it asks."""
+    offers = fair_offers(chance, some_weights(chance, count), many - 1)
+    row = some_row(chance, count)
+    price = some_fraction(chance)
+    return offers + [(row, of(price), of(price + Fraction(1, chance.randint(1, 50))), None)]
+
+
 def chances():
     # The seed is fixed: each run asks the same questions.
     return random.Random(20)

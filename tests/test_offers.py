@@ -11,34 +11,6 @@ from surebook.offers import come_to, gain, gains, sides
 NOUGHT = (0, 1)
 
 
-def some_offer(chance, count):
-    ask = chance.choice([None, samples.of(samples.some_fraction(chance))])
-    bid = chance.choice([None, samples.of(samples.some_fraction(chance))])
-    event = chance.choice([None, (), tuple(range(count)), samples.some_event(chance, count)])
-    return (samples.some_row(chance, count), ask, bid, event)
-
-
-def some_offers(chance, count, many):
-    return [some_offer(chance, count) for turn in range(many)]
-
-
-def right_gain(offer, word):
-    row, ask, bid, event = offer
-    told = [Fraction(0)] * len(row)
-    for world in walking.inside(len(row), event):
-        worth = samples.worth_of(row[world])
-        told[world] = worth - samples.worth_of(ask) if word == "buy" else samples.worth_of(bid) - worth
-    return row_of(*told)
-
-
-def right_sides(offers):
-    told = []
-    for number, (row, ask, bid, event) in enumerate(offers):
-        told += [(number, "buy")] if ask is not None else []
-        told += [(number, "sell")] if bid is not None else []
-    return told
-
-
 class Gain(walking.Walking):
     def test_by_hand(self):
         offer = (((1, 2), (-3, 1), (5, 6)), (1, 3), (1, 6), None)
@@ -84,7 +56,7 @@ class Gain(walking.Walking):
             for word in ("buy", "sell"):
                 told = self.asked(gain, offer, word)
                 self.assertTrue(samples.is_row(told, 4), told)
-                self.assertEqual(told, right_gain(offer, word))
+                self.assertEqual(told, walking.gain(offer, word))
 
     def test_long_numbers(self):
         long = 10 ** 30 - 1
@@ -92,7 +64,7 @@ class Gain(walking.Walking):
         for word in ("buy", "sell"):
             told = gain(offer, word)
             self.assertTrue(samples.is_row(told, 2), told)
-            self.assertEqual(told, right_gain(offer, word))
+            self.assertEqual(told, walking.gain(offer, word))
 
 
 class Sides(walking.Walking):
@@ -121,15 +93,15 @@ class Sides(walking.Walking):
         chance = samples.chances()
         for count in COUNTS:
             for many in (1, 5, 12, 24):
-                offers = some_offers(chance, count, many)
+                offers = samples.some_offers(chance, count, many)
                 told = self.asked(sides, offers)
                 self.assertIs(type(told), list)
-                self.assertEqual(told, right_sides(offers))
+                self.assertEqual(told, walking.sides(offers))
                 self.assertTrue(all(type(side) is tuple and samples.is_whole(side[0]) for side in told))
                 rows = self.asked(gains, offers)
                 self.assertIs(type(rows), list)
                 self.assertTrue(all(samples.is_row(row, count) for row in rows))
-                self.assertEqual(rows, [right_gain(offers[number], word) for number, word in told])
+                self.assertEqual(rows, [walking.gain(offers[number], word) for number, word in told])
 
 
 class ComeTo(walking.Walking):
@@ -184,7 +156,7 @@ class ComeTo(walking.Walking):
 
 class ToldLists(unittest.TestCase):
     def test_what_is_done_to_them_changes_no_later_answer(self):
-        offers = some_offers(samples.chances(), 3, 12)
+        offers = samples.some_offers(samples.chances(), 3, 12)
         kept = copy.deepcopy(offers)
         for ask in (sides, gains):
             first = ask(offers)
@@ -195,7 +167,7 @@ class ToldLists(unittest.TestCase):
             self.assertEqual(offers, kept)
 
     def test_what_is_done_to_handed_lists_changes_nothing_told(self):
-        offers = some_offers(samples.chances(), 3, 12)
+        offers = samples.some_offers(samples.chances(), 3, 12)
         told = (sides(offers), gains(offers))
         kept = copy.deepcopy(told)
         rows = gains(offers)

@@ -1,11 +1,13 @@
-"""Walks through answers of the program step by step, in Fractions, with nothing of the program's own."""
+"""Walks through answers of the program step by step, in Fractions, with nothing of the program's own reckoning."""
 
 import copy
+import itertools
 import unittest
 from fractions import Fraction
 
 import samples
 from samples import worths
+from surebook.errors import NoFair
 
 
 def amount(multiple):
@@ -13,15 +15,36 @@ def amount(multiple):
     return Fraction(multiple) if samples.is_whole(multiple) else samples.worth_of(multiple)
 
 
+def inside(count, event):
+    return range(count) if event is None else event
+
+
+def gain(offer, word):
+    row, ask, bid, event = offer
+    told = [Fraction(0)] * len(row)
+    for world in inside(len(row), event):
+        worth = samples.worth_of(row[world])
+        told[world] = worth - samples.worth_of(ask) if word == "buy" else samples.worth_of(bid) - worth
+    return samples.row_of(*told)
+
+
+def sides(offers):
+    told = []
+    for number, (row, ask, bid, event) in enumerate(offers):
+        told += [(number, "buy")] if ask is not None else []
+        told += [(number, "sell")] if bid is not None else []
+    return told
+
+
+def gains(offers):
+    return [gain(offers[number], word) for number, word in sides(offers)]
+
+
 def come_to(count, rows, multiples):
     so_far = [Fraction(0)] * count
     for row, multiple in zip(rows, multiples):
         so_far = [one + amount(multiple) * worth for one, worth in zip(so_far, worths(row))]
     return so_far
-
-
-def inside(count, event):
-    return range(count) if event is None else event
 
 
 def outside(count, event):
@@ -40,6 +63,44 @@ def are_weights(row):
     return all(worth >= 0 for worth in worths(row)) and sum(worths(row)) == 1
 
 
+def solved(rows, ends):
+    """The one solution of as many equations as unknowns, or None."""
+    size = len(rows)
+    table = [list(row) + [end] for row, end in zip(rows, ends)]
+    for column in range(size):
+        place = next((place for place in range(column, size) if table[place][column] != 0), None)
+        if place is None:
+            return None
+        table[column], table[place] = table[place], table[column]
+        table[column] = [number / table[column][column] for number in table[column]]
+        for other in range(size):
+            by = table[other][column]
+            if other != column and by != 0:
+                table[other] = [mine - by * theirs for mine, theirs in zip(table[other], table[column])]
+    return [line[-1] for line in table]
+
+
+def corners(count, rows):
+    """All corners of the fitting weights, tried out one choice of edges after another: for few worlds and gains."""
+    edges = [[Fraction(int(world == one)) for world in range(count)] for one in range(count)]
+    edges += [worths(row) for row in rows]
+    found = {}
+    for chosen in itertools.combinations(edges, count - 1):
+        weights = solved([[Fraction(1)] * count] + list(chosen), [Fraction(1)] + [Fraction(0)] * (count - 1))
+        if weights is not None and all(weight >= 0 for weight in weights):
+            row = samples.row_of(*weights)
+            if fit(row, rows):
+                found[row] = True
+    return list(found)
+
+
+def left_of(weights, event):
+    """The weights cut to the event and divided by its share."""
+    given = share(weights, event)
+    among = inside(len(weights), event)
+    return samples.row_of(*[weight / given if world in among else 0 for world, weight in enumerate(worths(weights))])
+
+
 class Walking(unittest.TestCase):
     def asked(self, ask, *handed):
         """The answer; asked twice, and what was handed in looked through behind it."""
@@ -49,6 +110,19 @@ class Walking(unittest.TestCase):
         again = ask(*handed)
         self.assertEqual(again, told)
         return told
+
+    def refused(self, kind, ask, *handed):
+        """The refusal; what was done to the list of the one ahead of it must not be seen in it."""
+        kept = copy.deepcopy(handed)
+        with self.assertRaises(kind) as first:
+            ask(*handed)
+        self.assertEqual(handed, kept)
+        right = list(first.exception.multiples)
+        first.exception.multiples.append("more")
+        with self.assertRaises(kind) as again:
+            ask(*handed)
+        self.assertEqual(again.exception.multiples, right)
+        return again.exception
 
     def are_multiples(self, multiples, many):
         self.assertIs(type(multiples), list)
@@ -63,6 +137,20 @@ class Walking(unittest.TestCase):
         for multiple in multiples:
             self.assertTrue(samples.is_whole(multiple), multiple)
             self.assertGreaterEqual(multiple, 0)
+
+    def gain_everywhere(self, count, rows, multiples):
+        self.are_whole_multiples(multiples, len(rows))
+        self.assertTrue(all(worth > 0 for worth in come_to(count, rows, multiples)))
+
+    def are_fitting(self, weights, count, rows):
+        self.assertTrue(samples.is_row(weights, count), weights)
+        self.assertTrue(are_weights(weights), weights)
+        self.assertTrue(fit(weights, rows), weights)
+
+    def no_fair(self, count, offers, ask, *handed):
+        """Asked of a beaten book."""
+        refusal = self.refused(NoFair, ask, count, offers, *handed)
+        self.gain_everywhere(count, gains(offers), refusal.multiples)
 
     def are_loads(self, loads, count):
         self.assertTrue(samples.is_row(loads, count), loads)
