@@ -69,3 +69,11 @@ def common_bottom(several):
 def whole_by(several, bottom):
     """The ratios multiplied by a number that all their bottoms divide, as whole numbers."""
     return [one[0] * (bottom // one[1]) for one in several]
+
+
+def least_of(several):
+    least = several[0]
+    for one in several:
+        if under(one, least):
+            least = one
+    return least

@@ -14,29 +14,6 @@ def paper(count, world):
 
 
 class Pricing(walking.Walking):
-    def price(self, ask, count, offers, row):
-        """Walks through the upper or the lower price, and tells it."""
-        told = self.asked(ask, count, offers, row)
-        self.assertIs(type(told), tuple)
-        self.assertEqual(len(told), 3)
-        self.assertTrue(samples.is_ratio(told[0]), told)
-        price, multiples, weights = samples.worth_of(told[0]), told[1], told[2]
-        rows = walking.gains(offers)
-        self.are_fitting(weights, count, rows)
-        self.assertEqual(samples.mean_under(weights, row), price)
-        self.are_multiples(multiples, len(rows))
-        for worth, gained in zip(worths(row), walking.come_to(count, rows, multiples)):
-            if ask == upper:
-                self.assertGreaterEqual(price + gained, worth)
-            else:
-                self.assertGreaterEqual(worth + gained, price)
-        return price
-
-    def prices(self, count, offers, row):
-        low, high = self.price(lower, count, offers, row), self.price(upper, count, offers, row)
-        self.assertLessEqual(low, high)
-        return (low, high)
-
     def some_books(self):
         chance = samples.chances()
         for count in COUNTS:

@@ -5,7 +5,7 @@ from fractions import Fraction
 
 import samples
 from surebook.errors import NoRatio
-from surebook.ratios import common_bottom, minus, parted, plus, ratio, times, under, whole_by
+from surebook.ratios import common_bottom, least_of, minus, parted, plus, ratio, times, under, whole_by
 
 LONG = 10 ** 200 + 7
 LONGER = 3 ** 2000 * 10 ** 50
@@ -167,6 +167,14 @@ class CommonBottom(unittest.TestCase):
             self.assertEqual(bottom, math.lcm(one[1], other[1]))
             for kept, whole in zip((one, other), whole_by([one, other], bottom)):
                 self.assertEqual(whole, samples.worth_of(kept) * bottom)
+
+
+class LeastOf(unittest.TestCase):
+    def test_by_worth_wherever_it_stands(self):
+        for several in ([(1, 2), (2, 5), (3, 7)], [(2, 5), (1, 2)], [(1, 2), (2, 5)], [(2, 5), (2, 5)]):
+            self.assertEqual(least_of(several), (2, 5))
+        self.assertEqual(least_of([(0, 1), (-1, 3), (-1, 2)]), (-1, 2))
+        self.assertEqual(least_of([(7, 3)]), (7, 3))
 
 
 class AskedAgain(unittest.TestCase):

@@ -8,6 +8,7 @@ from fractions import Fraction
 import samples
 from samples import worths
 from surebook.errors import NoFair
+from surebook.prices import lower, upper
 
 
 def amount(multiple):
@@ -80,12 +81,37 @@ def solved(rows, ends):
     return [line[-1] for line in table]
 
 
+def rank(rows):
+    """How many of the rows say something that the others do not."""
+    left = [list(row) for row in rows]
+    found = 0
+    while left:
+        line = left.pop()
+        place = next((place for place, number in enumerate(line) if number != 0), None)
+        if place is not None:
+            found += 1
+            key = line[place]
+            left = [[mine - row[place] / key * theirs for mine, theirs in zip(row, line)] for row in left]
+    return found
+
+
+def edges(count, rows):
+    return [[Fraction(int(world == one)) for world in range(count)] for one in range(count)] + list(map(worths, rows))
+
+
+def lie_in_no_middle(weights, rows):
+    """Whether the edges on which the weights lie leave no way to move both forth and back."""
+    touched = [
+        edge for edge in edges(len(weights), rows)
+        if sum(weight * number for weight, number in zip(worths(weights), edge)) == 0
+    ]
+    return rank([[Fraction(1)] * len(weights)] + touched) == len(weights)
+
+
 def corners(count, rows):
     """All corners of the fitting weights, tried out one choice of edges after another: for few worlds and gains."""
-    edges = [[Fraction(int(world == one)) for world in range(count)] for one in range(count)]
-    edges += [worths(row) for row in rows]
     found = {}
-    for chosen in itertools.combinations(edges, count - 1):
+    for chosen in itertools.combinations(edges(count, rows), count - 1):
         weights = solved([[Fraction(1)] * count] + list(chosen), [Fraction(1)] + [Fraction(0)] * (count - 1))
         if weights is not None and all(weight >= 0 for weight in weights):
             row = samples.row_of(*weights)
@@ -188,3 +214,26 @@ class Walking(unittest.TestCase):
             self.assertGreaterEqual(worth + sums[world], worths(aim)[world])
         for world in outside(count, event):
             self.assertGreaterEqual(sums[world], 0)
+
+    def price(self, ask, count, offers, row):
+        """Walks through the upper or the lower price, and tells it."""
+        told = self.asked(ask, count, offers, row)
+        self.assertIs(type(told), tuple)
+        self.assertEqual(len(told), 3)
+        self.assertTrue(samples.is_ratio(told[0]), told)
+        price, multiples, weights = samples.worth_of(told[0]), told[1], told[2]
+        rows = gains(offers)
+        self.are_fitting(weights, count, rows)
+        self.assertEqual(samples.mean_under(weights, row), price)
+        self.are_multiples(multiples, len(rows))
+        for worth, gained in zip(worths(row), come_to(count, rows, multiples)):
+            if ask == upper:
+                self.assertGreaterEqual(price + gained, worth)
+            else:
+                self.assertGreaterEqual(worth + gained, price)
+        return price
+
+    def prices(self, count, offers, row):
+        low, high = self.price(lower, count, offers, row), self.price(upper, count, offers, row)
+        self.assertLessEqual(low, high)
+        return (low, high)
