@@ -166,3 +166,17 @@ def faults(text):
 def drawn_from(text):
     """The package's modules that a file's text imports from."""
     return [node.module for node in ast.walk(ast.parse(text)) if isinstance(node, ast.ImportFrom)]
+
+
+def methods(text):
+    """The names of the methods that a file's classes have."""
+    classes = [node for node in ast.parse(text).body if isinstance(node, ast.ClassDef)]
+    return {inner.name for node in classes for inner in node.body if isinstance(inner, ast.FunctionDef)}
+
+
+def values(text):
+    """The names of the values that are given to objects in a file."""
+    return {
+        node.attr for node in ast.walk(ast.parse(text))
+        if isinstance(node, ast.Attribute) and isinstance(node.ctx, ast.Store)
+    }

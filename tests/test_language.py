@@ -51,6 +51,13 @@ class Package(unittest.TestCase):
             for name in free:
                 del waiting[name]
 
+    def test_no_name_is_a_method_and_a_value(self):
+        methods = set().union(*[language.methods(text) for text in texts().values()])
+        values = set().union(*[language.values(text) for text in texts().values()])
+        self.assertIn("say", methods)
+        self.assertIn("multiples", values)
+        self.assertEqual(methods & values, set())
+
 
 class Looking(unittest.TestCase):
     def test_bad_code_is_seen(self):
